@@ -1,0 +1,1 @@
+"""Stickbodies: bodies in the plane that are sums of sticks."""

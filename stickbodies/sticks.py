@@ -1,0 +1,87 @@
+"""Numbers, points and sticks, and rows that are gathered to sticks."""
+
+from stickbodies.errors import BadSticks
+
+MOST_STICKS = 6
+FARTHEST = 20
+
+
+def is_number(value):
+    """Whether whatever is handed in is a whole number."""
+    # Python takes True and False for integers, the document does not.
+    return isinstance(value, int) and not isinstance(value, bool)
+
+
+def is_point(value):
+    """Whether whatever is handed in is a pair of numbers."""
+    return isinstance(value, tuple) and len(value) == 2 and is_number(value[0]) and is_number(value[1])
+
+
+def is_near(value):
+    """Whether whatever is handed in is a pair of numbers from -20 to 20."""
+    return is_point(value) and abs(value[0]) <= FARTHEST and abs(value[1]) <= FARTHEST
+
+
+def span(one, other):
+    """What two sticks span: above 0 if the other is farther round."""
+    return one[0] * other[1] - one[1] * other[0]
+
+
+def stands(stick):
+    """Whether a stick leads up, or straight to the right."""
+    return stick[1] > 0 or (stick[1] == 0 and stick[0] > 0)
+
+
+def put_together(one, other):
+    """Where two sticks lead, one behind the other."""
+    return (one[0] + other[0], one[1] + other[1])
+
+
+def are_near(value):
+    """Whether whatever is handed in is a list of 1 to 6 pairs of numbers from -20 to 20."""
+    if not isinstance(value, list) or not 1 <= len(value) <= MOST_STICKS:
+        return False
+    return all([is_near(pair) for pair in value])
+
+
+def are_rows(value):
+    """Whether whatever is handed in is rows."""
+    return are_near(value) and (0, 0) not in value
+
+
+def are_sticks(value):
+    """Whether whatever is handed in is sticks."""
+    if not are_near(value) or not all([stands(stick) for stick in value]):
+        return False
+    # Standing sticks lie within half a turn, so that neighbours in order are all in order.
+    return all([span(value[at - 1], value[at]) > 0 for at in range(1, len(value))])
+
+
+def standing(row):
+    """The row as a standing stick, turned about if need be."""
+    if stands(row):
+        return (row[0], row[1])
+    return (-row[0], -row[1])
+
+
+def sticks_with(sticks, stick):
+    """The sticks and one more standing stick, which is put to the one along its line, if there is one."""
+    ahead = [other for other in sticks if span(other, stick) > 0]
+    along = [other for other in sticks if span(other, stick) == 0]
+    behind = [other for other in sticks if span(other, stick) < 0]
+    for other in along:
+        stick = put_together(other, stick)
+    return ahead + [stick] + behind
+
+
+def gathered(rows):
+    """The sticks whose body, moved, is all that shares of the rows lead to, and the point it is moved by."""
+    if not are_rows(rows):
+        raise BadSticks("no list of 1 to 6 pairs, not (0, 0), of numbers from -20 to 20")
+    sticks = []
+    moved = (0, 0)
+    for row in rows:
+        if not stands(row):
+            moved = put_together(moved, row)
+        sticks = sticks_with(sticks, standing(row))
+    return (sticks, moved)
