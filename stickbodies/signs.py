@@ -18,6 +18,11 @@ def fours(many):
     return [[*three, last] for three in threes(many) for last in range(three[2] + 1, many)]
 
 
+def is_four(many, value):
+    """Whether whatever is handed in is a list of four rising places of so many sticks."""
+    return isinstance(value, list) and all([is_number(place) for place in value]) and value in fours(many)
+
+
 def threes_of_four(four):
     """The threes of four rising sticks, in the order in which their signs are looked over."""
     i, j, k, last = four

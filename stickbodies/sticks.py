@@ -1,5 +1,6 @@
 """Numbers, points and sticks, and rows that are gathered to sticks."""
 
+from stickbodies.errors import BadPoint
 from stickbodies.errors import BadSticks
 
 MOST_STICKS = 6
@@ -22,6 +23,13 @@ def is_near(value):
     return is_point(value) and abs(value[0]) <= FARTHEST and abs(value[1]) <= FARTHEST
 
 
+def greatest_into(one, other):
+    """The greatest number that goes into both numbers, of any sign; 0 if both are 0."""
+    while other != 0:
+        one, other = other, one % other
+    return abs(one)
+
+
 def span(one, other):
     """What two sticks span: above 0 if the other is farther round."""
     return one[0] * other[1] - one[1] * other[0]
@@ -35,6 +43,34 @@ def stands(stick):
 def put_together(one, other):
     """Where two sticks lead, one behind the other."""
     return (one[0] + other[0], one[1] + other[1])
+
+
+def taken_back(one, other):
+    """Where a point or a stick leads with another one gone back."""
+    return (one[0] - other[0], one[1] - other[1])
+
+
+def longer(stick, times):
+    """The stick that many times as long."""
+    return (stick[0] * times, stick[1] * times)
+
+
+def all_together(sticks):
+    """Where all sticks lead, one behind the other."""
+    led = (0, 0)
+    for stick in sticks:
+        led = put_together(led, stick)
+    return led
+
+
+def along(line, point):
+    """How much a point has of a line: u times its first and v times its second number."""
+    return line[0] * point[0] + line[1] * point[1]
+
+
+def twos(many):
+    """Each two of so many sticks, a rising list of places, in the order of lists."""
+    return [[i, j] for i in range(many) for j in range(i + 1, many)]
 
 
 def are_near(value):
@@ -55,6 +91,18 @@ def are_sticks(value):
         return False
     # Standing sticks lie within half a turn, so that neighbours in order are all in order.
     return all([span(value[at - 1], value[at]) > 0 for at in range(1, len(value))])
+
+
+def check_sticks(value):
+    """Refuse whatever is handed in as sticks and is none."""
+    if not are_sticks(value):
+        raise BadSticks("no list of 1 to 6 standing sticks, each farther round, of numbers from -20 to 20")
+
+
+def check_point(value):
+    """Refuse whatever is handed in as a point and is none."""
+    if not is_point(value):
+        raise BadPoint("no pair of numbers")
 
 
 def standing(row):

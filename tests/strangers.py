@@ -23,3 +23,55 @@ def endless():
     row = []
     row.append(row)
     return row
+
+
+# Sticks, to which one wrong thing is put, or of which one is put wrongly.
+RIGHT = [(3, 0), (3, 1), (1, 1), (0, 1), (-1, 1)]
+
+
+def no_pairs():
+    """What is no pair of numbers."""
+    yield from [None, True, False, 0, 1, -3, 1.5, "", "ab", b"ab", (), (1,), (1, 2, 3), [], [1, 2], endless()]
+    yield from [{}, {1: 2, 3: 4}, {1, 2}, set(), range(2), ((1, 0), (0, 1)), [(1, 0)], object(), Hostile(), int, len]
+    for stranger in no_numbers():
+        yield (stranger, 1)
+        yield (1, stranger)
+        yield (stranger, stranger)
+
+
+def no_lists():
+    """What is no list."""
+    return [None, True, False, 0, 1, -3, 1.5, "", "ab", b"", b"ab", (), (1, 0), ((1, 0), (0, 1)), {}, {(1, 0): (0, 1)},
+            {(1, 0)}, frozenset([(1, 0)]), range(3), object(), Hostile(), list, len, iter([(1, 0)])]
+
+
+def no_sticks():
+    """What are no sticks: not in kind, not in length, not in one place, or not in turn."""
+    yield from no_lists()
+    yield from [[], endless(), [(20 - at, 1) for at in range(7)], [(1, 0)] * 7, [(20 - at, 1) for at in range(40)]]
+    yield [(1, 0), (3, 1), (2, 1), (1, 1), (0, 1), (-1, 1), (-2, 1)]
+    far = [(21, 0), (21, 1), (0, 21), (-21, 1), (-21, 21), (10 ** 5000, 1), (1, 10 ** 5000)]
+    low = [(0, 0), (-1, 0), (-20, 0), (0, -1), (3, -1), (-3, -1), (21, -21), (1, -10 ** 5000)]
+    for wrong in [*no_pairs(), *far, *low]:
+        yield [wrong]
+        for place in range(6):
+            yield RIGHT[:place] + [wrong] + RIGHT[place:]
+    yield from no_turn()
+
+
+def no_turn():
+    """Standing sticks of which one, at the first, a middle or the last place, is not farther round."""
+    yield from [[(1, 1), (1, 0)], [(1, 1), (2, 2)], [(1, 1), (1, 1)], [(0, 1), (1, 1)], [(-1, 1), (1, 0)]]
+    yield from [[(1, 0), (2, 0)], [(-2, 1), (-4, 2)], [(20, 19), (20, 18)], [(1, 0), (0, 1), (1, 1)]]
+    for at in range(1, len(RIGHT)):
+        yield RIGHT[:at - 1] + [RIGHT[at], RIGHT[at - 1]] + RIGHT[at + 1:]
+        yield RIGHT[:at] + [RIGHT[at - 1]] + RIGHT[at:]
+        yield RIGHT[:at] + [(2 * RIGHT[at - 1][0], 2 * RIGHT[at - 1][1])] + RIGHT[at:]
+    # Each neighbour but the first is farther round, yet the last is not farther than the first.
+    yield [(0, 1), (-1, 1), (5, 1), (4, 1), (3, 1)]
+    yield RIGHT[::-1]
+
+
+def no_times():
+    """What is no number from 0 on."""
+    return [-1, -2, -10 ** 5000, endless(), [0], (0, 1), (0,), *no_numbers()]

@@ -98,6 +98,40 @@ class Language(unittest.TestCase):
                     for alias in node.names:
                         self.assertIn(alias.name, defined, path.name)
 
+    def test_no_two_files_import_from_each_other(self):
+        ahead = {path.stem: {node.module.split(".")[1] for node in tree.body if isinstance(node, ast.ImportFrom)}
+                 for path, tree in self.trees.items()}
+        while ahead:
+            free = [name for name in ahead if not ahead[name]]
+            self.assertTrue(free, ahead)
+            ahead = {name: others - set(free) for name, others in ahead.items() if name not in free}
+
+    def test_no_local_name_is_that_of_a_class_or_an_import(self):
+        for path, tree in self.trees.items():
+            top = {alias.name for node in tree.body if isinstance(node, ast.ImportFrom) for alias in node.names}
+            top |= {node.name for node in tree.body if isinstance(node, ast.ClassDef)}
+            for node in ast.walk(tree):
+                if isinstance(node, ast.arg):
+                    self.assertNotIn(node.arg, top, path.name)
+                if isinstance(node, ast.Name) and not isinstance(node.ctx, ast.Load):
+                    self.assertNotIn(node.id, top, path.name)
+
+    def test_no_name_is_bound_twice_at_module_level(self):
+        for path, tree in self.trees.items():
+            names = [alias.name for node in tree.body if isinstance(node, ast.ImportFrom) for alias in node.names]
+            names += [node.name for node in tree.body if isinstance(node, (ast.FunctionDef, ast.ClassDef))]
+            names += [target.id for node in tree.body if isinstance(node, ast.Assign) for target in node.targets]
+            self.assertEqual(sorted(names), sorted(set(names)), path.name)
+
+    def test_no_name_is_a_method_and_an_attribute(self):
+        methods, stored = set(), set()
+        for _, node in self.nodes():
+            if isinstance(node, ast.ClassDef):
+                methods |= {inner.name for inner in node.body if isinstance(inner, ast.FunctionDef)}
+            if isinstance(node, ast.Attribute) and isinstance(node.ctx, ast.Store):
+                stored.add(node.attr)
+        self.assertEqual(methods & stored, set())
+
     def test_nothing_that_is_never_allowed(self):
         for where, node in self.nodes():
             self.assertNotIsInstance(node, NEVER, where)

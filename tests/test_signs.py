@@ -79,6 +79,16 @@ class HandedIn(unittest.TestCase):
         self.assertEqual(row, [0, 1, 0, 1])
 
 
+    def test_fours_of_places(self):
+        for many in range(1, 7):
+            right = signs.fours(many)
+            for four in itertools.product(range(-1, 7), repeat=4):
+                self.assertIs(signs.is_four(many, list(four)), list(four) in right)
+                self.assertIs(signs.is_four(many, four), False)
+        for wrong in [[], [0, 1, 2], [0, 1, 2, 3, 4], endless(), [0, True, 2, 3], None, Hostile(), [Hostile()] * 4]:
+            self.assertIs(signs.is_four(6, wrong), False)
+
+
 class Together(unittest.TestCase):
     def test_how_many_go_together(self):
         counts = [len([row for row in all_signs(many) if signs.go_together(many, row)]) for many in range(1, 6)]

@@ -1,11 +1,12 @@
 import itertools
+import math
 import unittest
 
 from stickbodies import sticks
-from stickbodies.errors import BadSticks
+from stickbodies.errors import BadPoint, BadSticks
 from stickbodies.sticks import gathered
 
-from strangers import Hostile, endless, no_numbers
+from strangers import RIGHT, endless, no_lists, no_numbers, no_pairs, no_sticks
 
 LINES = [(u, v) for u in range(-5, 6) for v in range(-5, 6)]
 
@@ -148,9 +149,7 @@ class Refused(unittest.TestCase):
         self.assertIs(type(caught.exception), BadSticks)
 
     def test_no_list(self):
-        for rows in [None, True, False, 0, 1, -3, 1.5, "", "ab", b"", b"ab", (), (1, 0), ((1, 0), (0, 1)), {},
-                     {(1, 0): (0, 1)}, {(1, 0)}, frozenset([(1, 0)]), range(3), object(), Hostile(), list, gathered,
-                     iter([(1, 0)]), (row for row in [(1, 0)])]:
+        for rows in [*no_lists(), gathered, (row for row in [(1, 0)])]:
             self.refuse(rows)
 
     def test_too_few_or_too_many(self):
@@ -160,12 +159,8 @@ class Refused(unittest.TestCase):
         self.refuse([(1, 0)] * 100)
 
     def wrong_rows(self):
-        yield from [[1, 0], [], (), (1,), (1, 2, 3), (0, 0), endless(), [(1, 0)], ((1, 0), (0, 1))]
-        yield from [(21, 0), (0, 21), (-21, 0), (0, -21), (21, -21), (10 ** 5000, 1), (1, -10 ** 5000)]
-        yield from [0, 1, "ab", b"ab", {1: 2, 3: 4}, {1, 2}, range(2), None, True, 1.5, object(), Hostile()]
-        for stranger in no_numbers():
-            yield (stranger, 1)
-            yield (1, stranger)
+        yield from [(0, 0), (21, 0), (0, 21), (-21, 0), (0, -21), (21, -21), (10 ** 5000, 1), (1, -10 ** 5000)]
+        yield from no_pairs()
 
     def test_a_wrong_row_at_each_place(self):
         right = [(1, 0), (0, -1), (2, 2), (-20, 20), (20, -20)]
@@ -190,11 +185,20 @@ class Told(unittest.TestCase):
     def test_points(self):
         for point in ((0, 0), (1, -2), (10 ** 50, -10 ** 50)):
             self.assertIs(sticks.is_point(point), True)
-        for point in [[0, 0], (), (1,), (1, 2, 3), "ab", None, 5, {1: 2, 3: 4}, Hostile()]:
-            self.assertIs(sticks.is_point(point), False)
-        for stranger in no_numbers():
-            self.assertIs(sticks.is_point((stranger, 0)), False)
-            self.assertIs(sticks.is_point((0, stranger)), False)
+            self.assertIsNone(sticks.check_point(point))
+        for wrong in no_pairs():
+            self.assertIs(sticks.is_point(wrong), False)
+            self.assertRaises(BadPoint, sticks.check_point, wrong)
+
+    def test_greatest_into(self):
+        for one, other in itertools.product(range(-30, 31), repeat=2):
+            self.assertEqual(sticks.greatest_into(one, other), math.gcd(one, other))
+        self.assertEqual(sticks.greatest_into(6 * 10 ** 40, -10 ** 41), 2 * 10 ** 40)
+
+    def test_twos(self):
+        self.assertEqual(sticks.twos(1), [])
+        for many in range(1, 7):
+            self.assertEqual(sticks.twos(many), [list(two) for two in itertools.combinations(range(many), 2)])
 
     def test_span(self):
         self.assertEqual(sticks.span((1, 0), (0, 1)), 1)
@@ -209,15 +213,14 @@ class Told(unittest.TestCase):
             self.assertIs(sticks.stands(stick), False)
 
     def test_sticks(self):
-        for right in [[(1, 0)], [(20, 0), (20, 20), (-20, 20)], [(1, 0), (2, 1), (1, 1), (0, 1), (-1, 1), (-2, 1)]]:
+        for right in [[(1, 0)], [(20, 0), (20, 20), (-20, 20)], [(1, 0), (2, 1), (1, 1), (0, 1), (-1, 1), (-2, 1)], RIGHT]:
             self.assertIs(sticks.are_sticks(right), True)
+            self.assertIsNone(sticks.check_sticks(right))
 
     def test_no_sticks(self):
-        for wrong in [[], [(1, 0), (3, 1), (2, 1), (1, 1), (0, 1), (-1, 1), (-2, 1)], [(0, 0)], [(-1, 0)], [(0, -1)],
-                      [(1, 1), (1, 0)], [(1, 1), (2, 2)], [(1, 0), (0, 1), (1, 1)], [(1, 0), (-1, 0)], [(21, 0)],
-                      [(-21, 1)], [(0, 21)], [[1, 0]], [(1, 0, 0)], [(True, 0)], [(1, False)], ((1, 0),), None, 3,
-                      "ab", {}, Hostile(), [Hostile()], [(Hostile(), 1)], endless()]:
+        for wrong in no_sticks():
             self.assertIs(sticks.are_sticks(wrong), False)
+            self.assertRaises(BadSticks, sticks.check_sticks, wrong)
 
 
 if __name__ == "__main__":
