@@ -1,5 +1,7 @@
 """The signs of a cut, 0 or 1 for each three sticks, and which of them go together."""
 
+from stickbodies.errors import BadCut
+from stickbodies.errors import BadMany
 from stickbodies.sticks import is_number
 
 
@@ -51,16 +53,21 @@ def changes(row):
     return len([at for at in range(1, len(row)) if row[at - 1] != row[at]])
 
 
+def signs_of_four(found, four):
+    """The signs of four rising sticks, in order, of those found by three."""
+    return [found[tuple(three)] for three in threes_of_four(four)]
+
+
 def breaks(many, signs, four):
     """Whether the signs of four rising sticks change more than once."""
-    found = signs_by_three(many, signs)
-    return changes([found[tuple(three)] for three in threes_of_four(four)]) > 1
+    return changes(signs_of_four(signs_by_three(many, signs), four)) > 1
 
 
 def broken_four(many, signs):
     """The first four sticks whose signs change more than once, or None if the signs go together."""
+    found = signs_by_three(many, signs)
     for four in fours(many):
-        if breaks(many, signs, four):
+        if changes(signs_of_four(found, four)) > 1:
             return four
     return None
 
@@ -68,3 +75,22 @@ def broken_four(many, signs):
 def go_together(many, signs):
     """Whether the signs of each four sticks change once at the most."""
     return broken_four(many, signs) is None
+
+
+def check_many(value, most):
+    """Refuse whatever is handed in as a count of sticks and is none from 1 up to the most."""
+    if not is_count(value, most):
+        raise BadMany("no count of sticks")
+
+
+def check_signs(many, value):
+    """Refuse whatever is handed in as signs and is no list of a sign for each three."""
+    if not are_signs(many, value):
+        raise BadCut("no list of a sign, 0 or 1, for each three sticks")
+
+
+def check_cut(many, value):
+    """Refuse whatever is handed in as a cut and is no list of signs that go together."""
+    check_signs(many, value)
+    if not go_together(many, value):
+        raise BadCut("signs that don't go together")

@@ -115,9 +115,9 @@ def standing(row):
 def sticks_with(sticks, stick):
     """The sticks and one more standing stick, which is put to the one along its line, if there is one."""
     ahead = [other for other in sticks if span(other, stick) > 0]
-    along = [other for other in sticks if span(other, stick) == 0]
+    level = [other for other in sticks if span(other, stick) == 0]
     behind = [other for other in sticks if span(other, stick) < 0]
-    for other in along:
+    for other in level:
         stick = put_together(other, stick)
     return ahead + [stick] + behind
 

@@ -75,3 +75,22 @@ def no_turn():
 def no_times():
     """What is no number from 0 on."""
     return [-1, -2, -10 ** 5000, endless(), [0], (0, 1), (0,), *no_numbers()]
+
+
+def no_counts(most):
+    """What is no count of sticks from 1 up to the most."""
+    return [0, -1, -2, most + 1, 7, 8, 10 ** 5000, -10 ** 5000, "a text", [3], (3,), endless(), *no_numbers()]
+
+
+def no_signs(many):
+    """What is no list of a sign for each three of so many sticks: not in kind, not in length, or not in one place."""
+    long = many * (many - 1) * (many - 2) // 6
+    yield from no_lists()
+    yield from [[0] * (long + 1), [1] * (long + 1), [0] * (long + 5), [1] * 1000, endless(), [[]] * long + [[]]]
+    yield from [(0,) * long, "0" * long, bytes(long), range(long), {at: 0 for at in range(long)}, iter([0] * long)]
+    if long:
+        yield from [[], [0] * (long - 1), [1] * (long - 1), [[0] * long], [[0]] * long]
+    for wrong in [2, -1, 3, 10 ** 5000, -10 ** 5000, endless(), *no_numbers()]:
+        for place in sorted({0, long // 2, long - 1} & set(range(long))):
+            for sign in (0, 1):
+                yield [sign] * place + [wrong] + [sign] * (long - place - 1)

@@ -3,12 +3,8 @@ import unittest
 
 from stickbodies import signs
 
+from exchanges import all_signs, broken_fours
 from strangers import Hostile, endless, no_numbers
-
-
-def all_signs(many):
-    """Every list of a sign for each three, whatever goes together."""
-    return [list(row) for row in itertools.product((0, 1), repeat=len(signs.threes(many)))]
 
 
 class Places(unittest.TestCase):
@@ -78,7 +74,6 @@ class HandedIn(unittest.TestCase):
         signs.go_together(4, row)
         self.assertEqual(row, [0, 1, 0, 1])
 
-
     def test_fours_of_places(self):
         for many in range(1, 7):
             right = signs.fours(many)
@@ -111,10 +106,7 @@ class Together(unittest.TestCase):
             self.assertIs(signs.go_together(4, row), False)
 
     def check_found(self, many, row):
-        """The four that is found, by the signs in a dict of our own."""
-        sign = dict(zip(itertools.combinations(range(many), 3), row))
-        bad = [list(four) for four in itertools.combinations(range(many), 4)
-               if len(list(itertools.groupby(sign[three] for three in itertools.combinations(four, 3)))) > 2]
+        bad = broken_fours(many, row)
         found = signs.broken_four(many, row)
         self.assertIs(signs.go_together(many, row), not bad)
         if not bad:
